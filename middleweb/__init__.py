@@ -1,0 +1,1 @@
+"""Middleweb: webs in which any three places have one middle."""

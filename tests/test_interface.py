@@ -1,0 +1,34 @@
+import inspect
+import unittest
+
+from middleweb import errors, ways, webs
+
+ARGUMENTS = (
+    (errors.NotClosed, ["three"]),
+    (errors.NoFit, ["pair"]),
+    (webs.web_of, ["many", "ties"]),
+    (webs.ties_of, ["web"]),
+    (webs.line_web, ["many"]),
+    (webs.grid_web, ["wide", "high"]),
+    (webs.cube_web, ["size"]),
+    (webs.tree_web, ["parents"]),
+    (ways.far, ["web", "a", "b"]),
+    (ways.fars, ["web"]),
+    (ways.way_between, ["web", "a", "b"]),
+    (ways.between, ["web", "a", "b"]),
+    (ways.middles, ["web", "a", "b", "c"]),
+)
+
+
+class Interface(unittest.TestCase):
+    def test_arguments(self):
+        for called, names in ARGUMENTS:
+            found = inspect.signature(called).parameters.values()
+            self.assertEqual([one.name for one in found], names, called)
+            for one in found:
+                self.assertIs(one.default, inspect.Parameter.empty)
+                self.assertIs(one.kind, inspect.Parameter.POSITIONAL_OR_KEYWORD)
+
+
+if __name__ == "__main__":
+    unittest.main()
