@@ -42,18 +42,28 @@ def way_between(web, a, b):
     return way
 
 
-def between(web, a, b):
-    from_a = fars_from(web, a)
-    from_b = fars_from(web, b)
+# The places between a and b, by how far each place is from a, and from b.
+def between_by(from_a, from_b, b):
     if from_a[b] is None:
         return []
     # What a way from a reaches, one from b reaches too: neither is None without the other.
-    reached = [x for x in range(len(web)) if from_a[x] is not None]
+    reached = [x for x in range(len(from_a)) if from_a[x] is not None]
     return [x for x in reached if from_a[x] + from_b[x] == from_a[b]]
 
 
+def between(web, a, b):
+    return between_by(fars_from(web, a), fars_from(web, b), b)
+
+
+# For each place a list with, for each place, those between the two.
+def betweens(web):
+    lengths = fars(web)
+    return [[between_by(from_a, from_b, b) for b, from_b in enumerate(lengths)] for from_a in lengths]
+
+
+def in_all_three(first, second, third):
+    return [x for x in first if x in second and x in third]
+
+
 def middles(web, a, b, c):
-    of_first = between(web, a, b)
-    of_second = between(web, b, c)
-    of_third = between(web, a, c)
-    return [x for x in of_first if x in of_second and x in of_third]
+    return in_all_three(between(web, a, b), between(web, b, c), between(web, a, c))

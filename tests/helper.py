@@ -1,9 +1,10 @@
-"""What the tests share: webs to try, refusals to look at, and a second reckoning of how far places are."""
+"""What the tests share: webs to try, refusals to look at, and a second reckoning of what the program tells."""
 
+import functools
 import random
 
 from middleweb import errors
-from middleweb.webs import cube_web, grid_web, line_web, tree_web, web_of
+from middleweb.webs import cube_web, grid_web, line_web, ties_of, tree_web, web_of
 
 REFUSALS = (
     errors.NoWeb,
@@ -60,6 +61,73 @@ def sample_webs():
     return all_webs(1) + all_webs(2) + all_webs(3) + all_webs(4) + made + mixed_webs()
 
 
+def ring_web(many):
+    return web_of(many, [(place, (place + 1) % many) for place in range(many)])
+
+
+def with_tie(web, tie):
+    return web_of(len(web), ties_of(web) + [tie])
+
+
+def without_tie(web, tie):
+    return web_of(len(web), [other for other in ties_of(web) if other != tie])
+
+
+def without_place(web, gone):
+    """The web of the other places; those behind the one that is gone are numbered one less."""
+    left = [tie for tie in ties_of(web) if gone not in tie]
+    return web_of(len(web) - 1, [(a - (a > gone), b - (b > gone)) for a, b in left])
+
+
+def near_webs(web):
+    """The webs with one tie more, with one tie fewer, and without one of the places."""
+    ties = ties_of(web)
+    more = [with_tie(web, pair) for pair in all_pairs(len(web)) if pair not in ties]
+    fewer = [without_tie(web, tie) for tie in ties]
+    return more + fewer + [without_place(web, x) for x in range(len(web)) if len(web) > 1]
+
+
+def twinned(web, part):
+    """The web with a twin for each place of the part, tied to it, and twins tied as their own places are."""
+    many = len(web)
+    twins = {x: many + k for k, x in enumerate(part)}
+    ties = ties_of(web) + [(x, twins[x]) for x in part]
+    ties += [(twins[a], twins[b]) for a, b in ties_of(web) if a in twins and b in twins]
+    return web_of(many + len(part), ties)
+
+
+def grown_web(seed, most):
+    """A middleweb of at most so many places, by twins of closed parts picked by the seed; numbered anew."""
+    chance = random.Random(seed)
+    web = line_web(1)
+    for turn in range(30):
+        some = [chance.randrange(len(web)) for k in range(chance.randint(1, 3))]
+        part = reckoned_hull(reckoned_fars(web), some)
+        if len(web) + len(part) <= most:
+            web = twinned(web, part)
+    numbers = list(range(len(web)))
+    chance.shuffle(numbers)
+    return renumbered(web, numbers)
+
+
+@functools.lru_cache(maxsize=None)
+def small_middlewebs():
+    """Of at most nine places: few enough to go through all parts."""
+    made = [line_web(many) for many in range(1, 6)] + [grid_web(2, 2), grid_web(3, 2), grid_web(3, 3), cube_web(3)]
+    made += [tree_web([0, 0, 0]), tree_web([0, 0, 1, 1, 2]), tree_web([0] * 7)]
+    made += [renumbered(web, other_numbers(len(web))) for web in made]
+    return tuple(made + [grown_web(seed, 5 + seed % 5) for seed in range(12)])
+
+
+@functools.lru_cache(maxsize=None)
+def middlewebs():
+    made = [line_web(24), grid_web(4, 6), grid_web(12, 2), cube_web(4), tree_web([0] * 23)]
+    made += [tree_web([k // 2 for k in range(23)]), tree_web([k * k % (k + 1) for k in range(17)])]
+    made += [twinned(twinned(grid_web(3, 2), [0, 1, 2, 3, 4, 5]), [4, 5, 10, 11])]
+    made += [renumbered(web, other_numbers(len(web))) for web in made]
+    return small_middlewebs() + tuple(made + [grown_web(seed, 12 + seed) for seed in range(13)])
+
+
 def other_numbers(many):
     """New numbers for the places, the same ones each time."""
     numbers = list(range(many))
@@ -85,3 +153,41 @@ def reckoned_fars(web):
                     if told[a][b] is None or first + second < told[a][b]:
                         told[a][b] = first + second
     return told
+
+
+def lies_between(told, a, x, b):
+    if None in (told[a][b], told[a][x], told[x][b]):
+        return False
+    return told[a][x] + told[x][b] == told[a][b]
+
+
+def reckoned_middles(told, a, b, c):
+    pairs = ((a, b), (b, c), (a, c))
+    return [x for x in range(len(told)) if all(lies_between(told, one, x, other) for one, other in pairs)]
+
+
+def is_closed(told, part):
+    return all(x in part for a in part for b in part for x in range(len(told)) if lies_between(told, a, x, b))
+
+
+def reckoned_hull(told, some):
+    """The places, and what lies between them, until nothing is left out."""
+    part = sorted(set(some))
+    while not is_closed(told, part):
+        part = [x for x in range(len(told)) if any(lies_between(told, a, x, b) for a in part for b in part)]
+    return part
+
+
+def all_parts(many):
+    return [[x for x in range(many) if choice >> x & 1] for choice in range(2 ** many)]
+
+
+@functools.lru_cache(maxsize=None)
+def closed_parts(web):
+    """Those of one place at least, as tuples."""
+    told = reckoned_fars(web)
+    return tuple(tuple(part) for part in all_parts(len(web)) if part and is_closed(told, part))
+
+
+def unlike_bits(one, other):
+    return sum(bit != mate for bit, mate in zip(one, other, strict=True))

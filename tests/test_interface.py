@@ -1,7 +1,7 @@
 import inspect
 import unittest
 
-from middleweb import errors, ways, webs
+from middleweb import classes, errors, parts, verdict, ways, webs
 
 ARGUMENTS = (
     (errors.NotClosed, ["three"]),
@@ -17,6 +17,16 @@ ARGUMENTS = (
     (ways.way_between, ["web", "a", "b"]),
     (ways.between, ["web", "a", "b"]),
     (ways.middles, ["web", "a", "b", "c"]),
+    (verdict.looked, ["web"]),
+    (classes.classes, ["web"]),
+    (classes.halves, ["web"]),
+    (classes.bit_rows, ["web"]),
+    (classes.place_of, ["web", "bits"]),
+    (classes.middle, ["web", "a", "b", "c"]),
+    (parts.outside, ["web", "part"]),
+    (parts.hull, ["web", "some"]),
+    (parts.gate, ["web", "part", "x"]),
+    (parts.shared, ["web", "parts"]),
 )
 
 

@@ -46,6 +46,17 @@ def is_docstring(node):
     return isinstance(node, ast.Expr) and isinstance(node.value, ast.Constant) and isinstance(node.value.value, str)
 
 
+def inner_names(tree):
+    """Parameters, and names that are bound within functions."""
+    found = []
+    for outer in tree.body:
+        if isinstance(outer, (ast.FunctionDef, ast.ClassDef)):
+            nodes = list(ast.walk(outer))
+            found += [node.arg for node in nodes if isinstance(node, ast.arg)]
+            found += [node.id for node in nodes if isinstance(node, ast.Name) and isinstance(node.ctx, ast.Store)]
+    return found
+
+
 class Files(unittest.TestCase):
     def setUp(self):
         self.texts = [(name, read(path)) for name, path in package_files()]
@@ -88,6 +99,7 @@ class Files(unittest.TestCase):
                 elif isinstance(node, (ast.FunctionDef, ast.ClassDef)):
                     bound.append(node.name)
             self.assertEqual(sorted(bound), sorted(set(bound)), name)
+            self.assertEqual(sorted(set(bound) & set(inner_names(tree))), [], name)
 
     def test_imports(self):
         drawn = {}
@@ -148,6 +160,7 @@ class Files(unittest.TestCase):
             at = (name, getattr(node, "lineno", None))
             if isinstance(node, ast.Assign):
                 self.assertEqual(len(node.targets), 1, at)
+                self.assertNotIsInstance(node.targets[0], (ast.Tuple, ast.List), at)
             if isinstance(node, (ast.For, ast.While)):
                 self.assertEqual(node.orelse, [], at)
             if isinstance(node, ast.Try):

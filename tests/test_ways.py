@@ -2,7 +2,7 @@ import unittest
 
 from middleweb.ways import between, far, fars, middles, way_between
 from middleweb.webs import cube_web, grid_web, line_web, tree_web, web_of
-from tests.helper import other_numbers, reckoned_fars, renumbered, sample_webs
+from tests.helper import lies_between, other_numbers, reckoned_fars, reckoned_middles, renumbered, sample_webs
 
 TWO_PIECES = web_of(5, [(0, 1), (1, 2), (3, 4)])
 ALL_TIED = web_of(3, [(0, 1), (1, 2), (0, 2)])
@@ -15,12 +15,6 @@ def triples(many):
     """All threes of a small web, some of a greater one."""
     step = 1 if many <= 6 else 5
     return [(a, b, c) for a in range(0, many, step) for b in range(0, many, step) for c in range(0, many, step)]
-
-
-def lies_between(told, a, x, b):
-    if None in (told[a][b], told[a][x], told[x][b]):
-        return False
-    return told[a][x] + told[x][b] == told[a][b]
 
 
 class Far(unittest.TestCase):
@@ -206,12 +200,7 @@ class Middles(unittest.TestCase):
         for web in sample_webs():
             told = reckoned_fars(web)
             for a, b, c in triples(len(web)):
-                due = [
-                    x
-                    for x in range(len(web))
-                    if lies_between(told, a, x, b) and lies_between(told, b, x, c) and lies_between(told, a, x, c)
-                ]
-                self.assertEqual(middles(web, a, b, c), due)
+                self.assertEqual(middles(web, a, b, c), reckoned_middles(told, a, b, c))
 
     def test_other_numbers(self):
         for web in sample_webs():
