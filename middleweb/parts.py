@@ -1,6 +1,7 @@
 """Closed parts of middlewebs: hulls, gates, and what parts have in common."""
 
 from middleweb.classes import bit_rows
+from middleweb.errors import NotClosed
 from middleweb.ways import betweens, fars_from
 
 
@@ -12,6 +13,12 @@ def outside(web, part):
             if left_out:
                 return (a, b, left_out[0])
     return None
+
+
+def check_closed(web, part):
+    three = outside(web, part)
+    if three is not None:
+        raise NotClosed(three)
 
 
 # The numbers of the classes of which all these rows are in one half.

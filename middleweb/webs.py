@@ -1,6 +1,6 @@
 """Webs: for each place the rising tuple of the places tied to it."""
 
-from middleweb.errors import NoWeb
+from middleweb.errors import NoWeb, TooMany
 
 MOST_PLACES = 24
 
@@ -23,6 +23,12 @@ def is_whole_within(thing, least, most):
 def check_number(thing, least, most):
     if not is_whole_within(thing, least, most):
         raise NoWeb(f"due is a whole number from {least} to {most}")
+
+
+# Of webs that are made of others.
+def check_room(many):
+    if many > MOST_PLACES:
+        raise TooMany(f"{many} places are more than {MOST_PLACES}")
 
 
 def check_tie(many, tie):

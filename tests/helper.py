@@ -23,12 +23,13 @@ NO_NUMBERS = (None, True, False, "", "1", "a", [], [1], (), (1,), {}, {1: 1}, {1
 
 
 def assert_refused(case, due, call, *handed):
-    """The call is refused with just the class that is due."""
+    """The call is refused with just the class that is due; the refusal is given back."""
     with case.assertRaises(errors.WebError, msg=repr(handed)) as caught:
         call(*handed)
     refusal = caught.exception
     case.assertIsInstance(refusal, ValueError)
     case.assertEqual([kind for kind in REFUSALS if isinstance(refusal, kind)], [due], repr(handed))
+    return refusal
 
 
 def all_pairs(many):
@@ -166,6 +167,15 @@ def reckoned_middles(told, a, b, c):
     return [x for x in range(len(told)) if all(lies_between(told, one, x, other) for one, other in pairs)]
 
 
+def due_word(told):
+    """Whether a web is a middleweb, by how far its places are."""
+    many = len(told)
+    if any(None in row for row in told):
+        return "apart"
+    threes = [(a, b, c) for a in range(many) for b in range(a, many) for c in range(b, many)]
+    return "one" if all(len(reckoned_middles(told, *three)) == 1 for three in threes) else "bad"
+
+
 def is_closed(told, part):
     return all(x in part for a in part for b in part for x in range(len(told)) if lies_between(told, a, x, b))
 
@@ -178,6 +188,28 @@ def reckoned_hull(told, some):
     return part
 
 
+def assert_outside(case, told, part, answer):
+    """The answer is a tuple (a, b, x), a and b in the part, x between them and not in it."""
+    case.assertEqual((type(answer), len(answer)), (tuple, 3))
+    a, b, x = answer
+    case.assertIn(a, part)
+    case.assertIn(b, part)
+    case.assertNotIn(x, part)
+    case.assertTrue(lies_between(told, a, x, b))
+
+
+def assert_not_closed(case, web, part, call, *handed):
+    """The call is refused so, with a field three that fits the part of the web."""
+    refusal = assert_refused(case, errors.NotClosed, call, *handed)
+    assert_outside(case, reckoned_fars(web), part, refusal.three)
+
+
+def assert_web(case, web):
+    """It is a tuple of rising tuples, each tie seen from both ends."""
+    case.assertEqual(web, web_of(len(web), ties_of(web)))
+    case.assertEqual({type(row) for row in web} | {type(web)}, {tuple})
+
+
 def all_parts(many):
     return [[x for x in range(many) if choice >> x & 1] for choice in range(2 ** many)]
 
@@ -187,6 +219,32 @@ def closed_parts(web):
     """Those of one place at least, as tuples."""
     told = reckoned_fars(web)
     return tuple(tuple(part) for part in all_parts(len(web)) if part and is_closed(told, part))
+
+
+def reckoned_halves(web):
+    """Both halves of each class, each once, as lists."""
+    told = reckoned_fars(web)
+    ends = [end for a, b in ties_of(web) for end in ((a, b), (b, a))]
+    found = {tuple(x for x in range(len(web)) if told[a][x] < told[b][x]) for a, b in ends}
+    return [list(half) for half in sorted(found)]
+
+
+def some_places(chance, many, most):
+    """Up to so many places in any order, some perhaps twice."""
+    return [chance.randrange(many) for k in range(chance.randint(1, most))]
+
+
+def some_parts(web):
+    """Closed parts of one place at least, as lists: single places, halves, hulls, all places."""
+    chance = random.Random(len(web))
+    told = reckoned_fars(web)
+    parts = [[x] for x in range(len(web))] + reckoned_halves(web)
+    parts += [reckoned_hull(told, some_places(chance, len(web), 3)) for k in range(6)]
+    return parts + [list(range(len(web)))]
+
+
+def renamed(numbers, part):
+    return sorted(numbers[x] for x in part)
 
 
 def unlike_bits(one, other):

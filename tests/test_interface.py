@@ -1,7 +1,7 @@
 import inspect
 import unittest
 
-from middleweb import classes, errors, parts, verdict, ways, webs
+from middleweb import classes, doublings, errors, going, joins, parts, verdict, ways, webs
 
 ARGUMENTS = (
     (errors.NotClosed, ["three"]),
@@ -27,6 +27,18 @@ ARGUMENTS = (
     (parts.hull, ["web", "some"]),
     (parts.gate, ["web", "part", "x"]),
     (parts.shared, ["web", "parts"]),
+    (going.going_to, ["web", "people", "x"]),
+    (going.gathered, ["web", "people"]),
+    (going.lighter, ["web", "people", "x"]),
+    (doublings.doubled, ["web", "part"]),
+    (doublings.grown, ["parts"]),
+    (doublings.unfolded, ["web"]),
+    (doublings.folded, ["web", "number"]),
+    (joins.side_by_side, ["one", "other"]),
+    (joins.glued, ["one", "part", "other", "mates"]),
+    (joins.unfilled, ["web", "part"]),
+    (joins.filled, ["web", "some"]),
+    (joins.kept_part, ["web", "part"]),
 )
 
 

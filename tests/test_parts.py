@@ -7,6 +7,7 @@ from middleweb.parts import gate, hull, outside, shared
 from middleweb.webs import cube_web, grid_web, line_web, tree_web
 from tests.helper import (
     all_parts,
+    assert_outside,
     closed_parts,
     is_closed,
     lies_between,
@@ -14,38 +15,15 @@ from tests.helper import (
     other_numbers,
     reckoned_fars,
     reckoned_hull,
+    renamed,
     renumbered,
     small_middlewebs,
+    some_parts,
+    some_places,
 )
 
 
-def some_places(chance, many, most):
-    """Up to so many places in any order, some perhaps twice."""
-    return [chance.randrange(many) for k in range(chance.randint(1, most))]
-
-
-def some_parts(web):
-    """Closed parts of one place at least, as lists: single places, halves, hulls, all places."""
-    chance = random.Random(len(web))
-    told = reckoned_fars(web)
-    parts = [[x] for x in range(len(web))] + [half for both in halves(web) for half in both]
-    parts += [reckoned_hull(told, some_places(chance, len(web), 3)) for k in range(6)]
-    return parts + [list(range(len(web)))]
-
-
-def renamed(numbers, part):
-    return sorted(numbers[x] for x in part)
-
-
 class Outside(unittest.TestCase):
-    def assert_outside(self, told, part, answer):
-        self.assertEqual((type(answer), len(answer)), (tuple, 3))
-        a, b, x = answer
-        self.assertIn(a, part)
-        self.assertIn(b, part)
-        self.assertNotIn(x, part)
-        self.assertTrue(lies_between(told, a, x, b))
-
     def test_written_out(self):
         self.assertIn(outside(line_web(3), [0, 2]), ((0, 2, 1), (2, 0, 1)))
         self.assertIsNone(outside(line_web(5), [1, 2, 3]))
@@ -67,18 +45,18 @@ class Outside(unittest.TestCase):
                 if is_closed(told, part):
                     self.assertIsNone(answer)
                 else:
-                    self.assert_outside(told, part, answer)
+                    assert_outside(self, told, part, answer)
 
     def test_parts_of_greater_webs_that_are_not_closed(self):
         for web in middlewebs():
             told = reckoned_fars(web)
             for a, b in itertools.combinations(range(0, len(web), 3), 2):
                 if told[a][b] > 1:
-                    self.assert_outside(told, [a, b], outside(web, [a, b]))
+                    assert_outside(self, told, [a, b], outside(web, [a, b]))
 
     def test_one_place_left_out_of_many(self):
         part = [x for x in range(24) if x != 22]
-        self.assert_outside(reckoned_fars(line_web(24)), part, outside(line_web(24), part))
+        assert_outside(self, reckoned_fars(line_web(24)), part, outside(line_web(24), part))
         self.assertIsNone(outside(line_web(24), list(range(23))))
 
 

@@ -7,6 +7,7 @@ from middleweb.webs import cube_web, grid_web, line_web, ties_of, tree_web, web_
 from tests.helper import (
     all_pairs,
     all_webs,
+    due_word,
     middlewebs,
     near_webs,
     other_numbers,
@@ -33,14 +34,6 @@ def two_to_each_of(many):
 
 def all_tied(many):
     return web_of(many, all_pairs(many))
-
-
-def due_word(told):
-    many = len(told)
-    if any(None in row for row in told):
-        return "apart"
-    threes = [(a, b, c) for a in range(many) for b in range(a, many) for c in range(b, many)]
-    return "one" if all(len(reckoned_middles(told, *three)) == 1 for three in threes) else "bad"
 
 
 class Looked(unittest.TestCase):
