@@ -1,7 +1,21 @@
 import inspect
 import unittest
 
-from middleweb import classes, doublings, errors, going, joins, parts, verdict, ways, webs
+from middleweb import (
+    classes,
+    cubes,
+    desk,
+    doublings,
+    errors,
+    going,
+    joins,
+    parts,
+    texts,
+    verdict,
+    versions,
+    ways,
+    webs,
+)
 
 ARGUMENTS = (
     (errors.NotClosed, ["three"]),
@@ -39,6 +53,14 @@ ARGUMENTS = (
     (joins.unfilled, ["web", "part"]),
     (joins.filled, ["web", "some"]),
     (joins.kept_part, ["web", "part"]),
+    (versions.versions_far, ["web", "one", "other"]),
+    (versions.merged, ["web", "old", "hands"]),
+    (versions.agreed, ["web", "versions"]),
+    (cubes.cube_counts, ["web"]),
+    (texts.show_web, ["web"]),
+    (texts.read_web, ["text"]),
+    (desk.Desk, []),
+    (desk.Desk().say, ["row"]),
 )
 
 
